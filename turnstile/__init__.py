@@ -1,0 +1,1 @@
+"""Turnstile: visits let by under bounds."""
