@@ -131,6 +131,15 @@ class OfBoth(unittest.TestCase):
                     self.assertIsNone(meter.wait(10 ** 12, cost))
                 meter.take(0, 7)
 
+    def test_by_whom_nobody_came_any_moment_is_free(self):
+        for told in (("jar", 7, 10 ** 9), ("jar", 7, 0), ("window", 7, 1), ("window", 7, 10 ** 12)):
+            for moment in (-10 ** 12, -1, 0, 1, 10 ** 12, 10 ** 30):
+                meter = plain.made(told).meter()
+                self.assertEqual([meter.can(moment, cost) for cost in (1, 7, 8)], [True, True, False])
+                self.assertEqual([meter.wait(moment, cost) for cost in (1, 7, 8)], [0, 0, None])
+                meter.take(moment, 7)
+                self.assertFalse(meter.can(moment, 1))
+
     def test_the_least_bounds(self):
         for told in (("jar", 1, 1), ("window", 1, 1)):
             meter = plain.made(told).meter()

@@ -32,7 +32,7 @@ class JarMeter(Meter):
         self._size = size
         self._flow = flow
         self._level = 0
-        self._moment = 0
+        self._moment = None
 
     def can(self, moment, cost):
         """Whether the jar has room for this cost at this moment."""
@@ -60,6 +60,9 @@ class JarMeter(Meter):
         return 0
 
     def _level_at(self, moment):
+        # Each cost is at least 1, so a level of 0 is that of a jar by which nobody came: it has no last moment.
+        if self._level == 0:
+            return 0
         return max(0, self._level - self._flow * (moment - self._moment))
 
 
