@@ -56,7 +56,7 @@ class JarMeter(Meter):
         self._moment = moment
 
     def kept(self):
-        """None: the level tells all that matters of those that came by."""
+        """Always 0: the level tells all that matters of those that came by."""
         return 0
 
     def _level_at(self, moment):
