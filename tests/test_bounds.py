@@ -8,8 +8,6 @@ from turnstile.errors import NoBound
 from turnstile.meters import JarMeter, Meter, WindowMeter
 from tests import plain
 
-NO_NUMBERS = (True, False, None, 1.0, "1", "", b"1", [1], (1,), {}, object())
-
 
 class Watched:
     """Tells whether it was looked at: any comparison is marked."""
@@ -50,7 +48,7 @@ class Limits(unittest.TestCase):
             self.assert_none(Window, 1, span)
 
     def test_what_is_no_number(self):
-        for value in NO_NUMBERS:
+        for value in plain.NO_NUMBERS:
             for kind in (Jar, Window):
                 self.assert_none(kind, value, 1)
                 self.assert_none(kind, 1, value)

@@ -13,8 +13,14 @@ CLASSES = {
         "Late", "Full", "BadRow", "Never", "Broken")},
     "bounds": {name: ["room", "meter"] for name in ("Bound", "Jar", "Window")},
     "meters": {name: ["can", "wait", "take", "kept"] for name in ("Meter", "JarMeter", "WindowMeter")},
+    "gate": {"Gate": ["ask", "visit", "names", "kept"]},
+    "books": {"Book": ["visits", "put", "drop", "change", "earliest"]},
 }
-FUNCTIONS = {"stretches": {"broken": ["bound", "visits"]}}
+FUNCTIONS = {
+    "stretches": {"broken": ["bound", "visits"]},
+    "plans": {"plan": ["bounds", "moment", "costs"]},
+    "rows": {"play": ["text"]},
+}
 ARGUMENTS = {
     "room": ["self", "first", "last"],
     "meter": ["self"],
@@ -22,12 +28,22 @@ ARGUMENTS = {
     "wait": ["self", "moment", "cost"],
     "take": ["self", "moment", "cost"],
     "kept": ["self"],
+    "ask": ["self", "name", "moment", "cost"],
+    "visit": ["self", "name", "moment", "cost"],
+    "names": ["self"],
+    "visits": ["self"],
+    "put": ["self", "moment", "cost"],
+    "drop": ["self", "moment", "cost"],
+    "change": ["self", "k", "bound"],
+    "earliest": ["self", "moment", "cost"],
 }
 BUILT = {
     "Jar": ["self", "size", "flow"],
     "Window": ["self", "most", "span"],
     "Never": ["self", "place"],
     "Broken": ["self", "k", "stretch"],
+    "Gate": ["self", "own", "common"],
+    "Book": ["self", "bounds"],
 }
 
 
@@ -62,6 +78,22 @@ class Interface(unittest.TestCase):
             found = defined(parsed(PACKAGE / f"{file}.py").body, ast.FunctionDef)
             for name, told in functions.items():
                 self.assertEqual(arguments(found[name]), told)
+                module = importlib.import_module(f"turnstile.{file}")
+                self.assertEqual(getattr(module, name).__module__, f"turnstile.{file}")
+
+    def test_arguments_are_taken_by_their_names(self):
+        bounds = importlib.import_module("turnstile.bounds")
+        gate = importlib.import_module("turnstile.gate").Gate(own=[bounds.Jar(size=5, flow=1)], common=None)
+        self.assertEqual(gate.visit(name="bob", moment=0, cost=5), ("open",))
+        self.assertEqual(gate.ask(name="bob", moment=0, cost=1), ("shut", "own", 0, 1))
+        plan = importlib.import_module("turnstile.plans").plan
+        self.assertEqual(plan(bounds=[bounds.Window(most=5, span=3)], moment=2, costs=[5, 1]), [2, 5])
+        book = importlib.import_module("turnstile.books").Book(bounds=[bounds.Jar(5, 1)])
+        book.put(moment=3, cost=5)
+        book.change(k=0, bound=bounds.Jar(6, 1))
+        self.assertEqual(book.earliest(moment=3, cost=2), 4)
+        book.drop(moment=3, cost=5)
+        self.assertEqual(importlib.import_module("turnstile.rows").play(text="names"), ["-"])
 
     def test_what_stands_under_what(self):
         bounds = importlib.import_module("turnstile.bounds")

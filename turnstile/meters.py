@@ -112,6 +112,31 @@ class WindowMeter(Meter):
             del self._rows[:many]
 
 
+def new_meters(bounds):
+    """A new meter of each of these bounds, in their order."""
+    return [bound.meter() for bound in bounds]
+
+
+def wait_for_all(meters, moment, cost):
+    """The least number of moments behind this one at which all can let the visit by; None where they never can.
+
+    Who can come by a meter at a moment can at each later one, so the longest wait does for all.
+    """
+    longest = 0
+    for meter in meters:
+        wait = meter.wait(moment, cost)
+        if wait is None:
+            return None
+        longest = max(longest, wait)
+    return longest
+
+
+def take_by_all(meters, moment, cost):
+    """Lets the visit by each of these meters."""
+    for meter in meters:
+        meter.take(moment, cost)
+
+
 def _place_reaching(rows, total):
     """The place of the first row whose total is no less than this one; there is such a row."""
     low = 0
